@@ -1,0 +1,1 @@
+"""Laidround: numbers laid round in a spiral."""

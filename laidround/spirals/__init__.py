@@ -1,0 +1,1 @@
+"""Spirals: places, neighbours and rings, runs and rays."""
