@@ -1,5 +1,7 @@
 """What several test files ask of the program."""
 
+import contextlib
+import signal
 import unittest
 
 from laidround.errors import LaidError, NoNumber
@@ -7,7 +9,26 @@ from laidround.errors import LaidError, NoNumber
 from laying import SPIRALS, below
 
 
+@contextlib.contextmanager
+def soon(seconds=10):
+    """What stands within fails where it takes longer; it is broken off then."""
+    def too_late(number, frame):
+        raise AssertionError(f"not told within {seconds} seconds")
+
+    before = signal.signal(signal.SIGALRM, too_late)
+    signal.alarm(seconds)
+    try:
+        yield
+    finally:
+        signal.alarm(0)
+        signal.signal(signal.SIGALRM, before)
+
+
 class Case(unittest.TestCase):
+    def setUp(self):
+        # What goes number by number far out would never end: it is to fail instead.
+        self.enterContext(soon(120))
+
     def assert_whole(self, value):
         self.assertIs(type(value), int)
 

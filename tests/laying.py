@@ -12,6 +12,7 @@ RIGHT = {"n": "e", "w": "n", "s": "w", "e": "s"}
 STARTS = (1, 0, -1, -7, 42, 10 ** 18, -10 ** 18)
 WAYS = tuple(itertools.product(HEADINGS, ("l", "r")))
 SPIRALS = tuple((start, heading, turn) for start in STARTS for heading, turn in WAYS)
+NEAR_SPIRALS = tuple((1, heading, turn) for heading, turn in WAYS)
 FEW_SPIRALS = tuple((start, heading, turn) for start in (1, -10 ** 18) for heading, turn in WAYS)
 
 # The corner behind four times so many runs, up to about number 10 ** 20.
@@ -42,6 +43,12 @@ def lay(spiral, runs=40):
         laid_runs.append((begin, number, heading))
         heading = turned(heading, turn)
     return places, laid_runs
+
+
+def lay_places(spiral, runs=40):
+    """Number by place of the first so many runs."""
+    places, laid_runs = lay(spiral, runs)
+    return {place: number for number, place in places.items()}
 
 
 def far_runs(spiral, rounds, runs=9):

@@ -1,4 +1,4 @@
-"""What the other modules of spirals share: offsets, and the plain spiral.
+"""What the other modules share: offsets, and the plain spiral.
 
 An offset is how far behind the start a number was laid. The plain spiral has
 the heading e and the turn l; every other one is it mirrored, then turned, so
@@ -33,9 +33,14 @@ def whole_root(square):
     return root
 
 
+def plain_ring(offset):
+    """The ring of the number of this offset."""
+    return (whole_root(offset) + 1) // 2
+
+
 def plain_place(offset):
     """Where the plain spiral lays the number of this offset."""
-    ring = (whole_root(offset) + 1) // 2
+    ring = plain_ring(offset)
     # Offset 4 * ring * ring is the upper left corner, between two sides.
     past = offset - 4 * ring * ring
     if past > 2 * ring:

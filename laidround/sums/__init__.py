@@ -1,0 +1,1 @@
+"""Sums: boxes, the first so many numbers, and how far by streets."""
