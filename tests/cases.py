@@ -16,12 +16,14 @@ def soon(seconds=10):
         raise AssertionError(f"not told within {seconds} seconds")
 
     before = signal.signal(signal.SIGALRM, too_late)
-    signal.alarm(seconds)
+    # One limit may stand within another, whose rest goes on behind it.
+    rest = signal.alarm(seconds)
     try:
         yield
     finally:
         signal.alarm(0)
         signal.signal(signal.SIGALRM, before)
+        signal.alarm(rest)
 
 
 class Case(unittest.TestCase):

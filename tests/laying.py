@@ -1,4 +1,4 @@
-"""Numbers laid one by one, by the words of promise [4]: what the tests compare with.
+"""Numbers laid one by one, by the words of promises [4] and [14]: what the tests compare with.
 
 Nothing here comes from the package.
 """
@@ -28,7 +28,7 @@ def stepped(place, heading, many=1):
     return (place[0] + along * many, place[1] + up * many)
 
 
-def lay(spiral, runs=40):
+def lay(spiral, runs=40, arms=(1, 1)):
     """(place by number, the runs as (begin, end, heading)) of the first so many runs."""
     number, heading, turn = spiral
     place = (0, 0)
@@ -36,7 +36,7 @@ def lay(spiral, runs=40):
     laid_runs = []
     for run in range(runs):
         begin = number
-        for step in range(run // 2 + 1):
+        for step in range(arms[run % 2] + run // 2):
             number += 1
             place = stepped(place, heading)
             places[number] = place
@@ -45,26 +45,27 @@ def lay(spiral, runs=40):
     return places, laid_runs
 
 
-def lay_places(spiral, runs=40):
+def lay_places(spiral, runs=40, arms=(1, 1)):
     """Number by place of the first so many runs."""
-    places, laid_runs = lay(spiral, runs)
+    places, laid_runs = lay(spiral, runs, arms)
     return {place: number for number, place in places.items()}
 
 
-def far_runs(spiral, rounds, runs=9):
+def far_runs(spiral, rounds, runs=9, arms=(1, 1)):
     """Runs behind 4 * rounds ones, as (index, begin, end, heading, place of begin).
 
-    By so many rounds the first heading and its opposite are gone 1 + 3 + 5 ..
-    and 2 + 4 + 6 .. steps, so the corner reached is `rounds` back along the
-    heading; the same holds for the heading behind the first turn.
+    By so many rounds the first heading is gone first, first + 2, first + 4 ..
+    steps and its opposite first + 1, first + 3 .. steps, so the corner reached
+    is `rounds` back along the heading, whatever the first arm is; the same holds
+    for the heading behind the first turn.
     """
     start, heading, turn = spiral
     place = stepped((0, 0), heading, -rounds)
     place = stepped(place, turned(heading, turn), -rounds)
-    number = start + 2 * rounds * (2 * rounds + 1)
+    number = start + 2 * rounds * (arms[0] + arms[1]) + 2 * rounds * (2 * rounds - 1)
     found = []
     for run in range(4 * rounds, 4 * rounds + runs):
-        length = run // 2 + 1
+        length = arms[run % 2] + run // 2
         found.append((run, number, number + length, heading, place))
         number += length
         place = stepped(place, heading, length)
@@ -78,11 +79,11 @@ def spots_on(length):
     return sorted({spot for spot in near if 1 <= spot <= length})
 
 
-def far_numbers(spiral):
+def far_numbers(spiral, arms=(1, 1), many_rounds=ROUNDS):
     """Numbers far out with their places: (number, place)."""
     found = []
-    for rounds in ROUNDS:
-        for run, begin, end, heading, place in far_runs(spiral, rounds):
+    for rounds in many_rounds:
+        for run, begin, end, heading, place in far_runs(spiral, rounds, 9, arms):
             for spot in spots_on(end - begin):
                 found.append((begin + spot, stepped(place, heading, spot)))
     return found

@@ -14,6 +14,13 @@ def box_round(places):
     return (min(alongs), min(ups), max(alongs), max(ups))
 
 
+def stands_in(box, place):
+    """Whether the place stands in the box."""
+    left, low, right, high = box
+    along, up = place
+    return left <= along <= right and low <= up <= high
+
+
 def ahead_of_side(ring, side):
     """The offset just ahead of the ring's side; the sides are counted from 0."""
     return 4 * ring * (ring - 1) + 2 * ring * side
@@ -40,6 +47,5 @@ def side_spans(box, ring, side):
 def ring_spans(box, ring):
     """The offsets of the ring that stand in the box, as spans (first, last)."""
     if ring == 0:
-        left, low, right, high = box
-        return [(0, 0)] if left <= 0 <= right and low <= 0 <= high else []
+        return [(0, 0)] if stands_in(box, (0, 0)) else []
     return [span for side in range(4) for span in side_spans(box, ring, side)]

@@ -4,10 +4,14 @@ from laidround.spirals.offsets import plain_offset, plain_ring
 from laidround.spirals.places import place_of
 
 
+def streets_between(place, other):
+    """How far the two places are apart by streets."""
+    return abs(place[0] - other[0]) + abs(place[1] - other[1])
+
+
 def streets_of(spiral, number):
     """How far the number is by streets, or NoNumber."""
-    along, up = place_of(spiral, number)
-    return abs(along) + abs(up)
+    return streets_between(place_of(spiral, number), (0, 0))
 
 
 def offsets_so_far(ring, streets):

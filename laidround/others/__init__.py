@@ -1,0 +1,1 @@
+"""Other spirals: longer arms, and two spirals side by side."""
